@@ -1,0 +1,158 @@
+"""Things to try: any values, right things with parts spoilt, and things drawn by lot from a told seed."""
+
+import random
+from copy import deepcopy
+
+from tests import reference
+
+ODD_VALUES = (
+    None, True, False, 0, 1, 2, 3, -1, -2, 5, 16, 17, 10 ** 39, -(10 ** 39), "", "F", "0", "bend", "straight", "step",
+    "a" * 2000, (), [], {}, ((),), [()], {"a": (1, 2)}, (0,), (1,), (True,), (0, 0, True), [0, 0, 1], (0, 0, 1),
+    (0, 1, 1), ((0, 1, 1),), (((1, 0, 1),), ((0, 1, 1),)), (1, 0, 0, 0, 1, 0), [1, 0, 0, 0, 1, 0],
+    ("bend", (0, 0, 1)), (("bend", (0, 0, 1)),), ("straight", (1, 0, 0, 0, 1, 0)), ("stuck", ()), ("step", None),
+    (-1, (), (), (1, 0, 0, 0, 1, 0)), (0, (), (), (1, 0, 0, 0, 1, 0)), (None,) * 4, (1,) * 3000, "a\nb",
+)
+
+
+def deep_value():
+    found = 1
+    for _ in range(12):
+        found = (found,)
+    return found
+
+
+def odd_values():
+    return [*ODD_VALUES, deep_value(), list(range(20)), {1: {2: [3]}}]
+
+
+SPOILERS = (None, True, False, -1, -2, 0, 1, 2, 10 ** 39, "", "bend", (), [], ((),), {}, (0, 0, 1), ((1, 0, 1),))
+
+
+def spoilt(thing, draw, many):
+    """So many copies of something, each with a part replaced, left out, exchanged or repeated."""
+    return [spoilt_once(thing, draw) for _ in range(many)]
+
+
+def spoilt_once(thing, draw):
+    if isinstance(thing, tuple) and thing and draw.random() < 0.8:
+        at = draw.randrange(len(thing))
+        way = draw.randrange(8)
+        if way == 0:
+            return thing[:at] + thing[at + 1:]
+        if way == 1:
+            return thing[:at] + (thing[at],) + thing[at:]
+        if way == 2:
+            other = draw.randrange(len(thing))
+            parts = list(thing)
+            parts[at], parts[other] = parts[other], parts[at]
+            return tuple(parts)
+        return thing[:at] + (spoilt_once(thing[at], draw),) + thing[at + 1:]
+    if isinstance(thing, tuple) and draw.random() < 0.3:
+        return list(thing)
+    if type(thing) is int and draw.random() < 0.5:
+        return draw.choice((bool(thing), thing + 1, thing - 1, -thing, 0, thing + 16, str(thing)))
+    return deepcopy(draw.choice(SPOILERS))
+
+
+def drawer(*seed):
+    return random.Random(repr(seed))
+
+
+def number(q, draw):
+    return draw.randrange(q)
+
+
+def one_letter(q, draw, degree):
+    """A one-letter polynomial of just this degree, zero for -1."""
+    if degree < 0:
+        return ()
+    return tuple(draw.randrange(q) for _ in range(degree)) + (draw.randrange(1, q),)
+
+
+def straight(q, draw):
+    while True:
+        found = tuple(draw.randrange(q) for _ in range(6))
+        if reference.is_straight(q, found):
+            return found
+
+
+def straight_of_any_sort(q, draw):
+    """Straight maps of which many have d = 0, are turns, or are the map that moves nothing."""
+    way = draw.randrange(5)
+    if way == 0:
+        return (0, 1, 0, 1, draw.randrange(q), 0)
+    if way == 1:
+        a, e = draw.randrange(1, q), draw.randrange(1, q)
+        return (a, draw.randrange(q), draw.randrange(q), 0, e, draw.randrange(q))
+    if way == 2:
+        return draw.choice(((1, 0, 0, 0, 1, 0), (1, 0, draw.randrange(q), 0, 1, 0), (1, draw.randrange(q), 0, 0, 1, 0)))
+    return straight(q, draw)
+
+
+def bend(q, draw, degree=None):
+    if degree is None:
+        degree = draw.randrange(2, 7)
+    middle = tuple(draw.randrange(q) for _ in range(degree - 2))
+    return (0, 0) + middle + (draw.randrange(1, q),)
+
+
+def piece(q, draw):
+    if draw.random() < 0.5:
+        return ("straight", straight_of_any_sort(q, draw))
+    return ("bend", bend(q, draw))
+
+
+def row(q, draw, many):
+    return tuple(piece(q, draw) for _ in range(many))
+
+
+def row_of_degree(q, draw, most, many):
+    """A row of so many pieces the degrees of whose bends have a product of at most this."""
+    found = []
+    left = most
+    for _ in range(many):
+        if left >= 2 and draw.random() < 0.5:
+            degree = draw.randrange(2, min(left, 6) + 1)
+            left = left // degree
+            found.append(("bend", bend(q, draw, degree)))
+        else:
+            found.append(("straight", straight_of_any_sort(q, draw)))
+    return tuple(found)
+
+
+def step(q, draw, degrees):
+    """A step with these degrees, drawn from all of them."""
+    if degrees == ():
+        return (-1, (), (), straight(q, draw))
+    bends = tuple(bend(q, draw, degree) for degree in degrees)
+    turns = tuple(draw.randrange(q) for _ in degrees[1:])
+    return (draw.randrange(-1, q), bends, turns, straight_of_any_sort(q, draw))
+
+
+def some_degrees(draw, many):
+    return tuple(draw.randrange(2, 7) for _ in range(many))
+
+
+def degrees_up_to(most):
+    """All tuples of degrees whose product is at most this."""
+    found = [()]
+    for degrees in found:
+        product = 1
+        for degree in degrees:
+            product *= degree
+        found.extend([degrees + (degree,) for degree in range(2, 7) if product * degree <= most])
+    return found
+
+
+def poly(q, draw, degree, fill=0.6):
+    """A polynomial of at most this degree; zero for -1."""
+    found = {}
+    for i in range(degree + 1):
+        for j in range(degree + 1 - i):
+            if draw.random() < fill:
+                found[i, j] = draw.randrange(q)
+    return reference.as_poly(found)
+
+
+def cut_point(q, draw):
+    return tuple(tuple(draw.randrange(q) for _ in range(reference.SIZE)) for _ in range(2))

@@ -1,0 +1,107 @@
+"""The interface: each name in its own file, parameters as written there, and arguments that stay as they are."""
+
+import importlib
+import inspect
+import unittest
+from copy import deepcopy
+
+from tests import samples
+
+# What the interface lists, module by module: names, parameters, and arguments to call them with over 3.
+BEND, SAME = (0, 0, 1), (1, 0, 0, 0, 1, 0)
+F, G = ((0, 1, 1), (2, 0, 2)), ((0, 0, 1), (1, 0, 2))
+PAIR = (((0, 1, 1),), ((0, 2, 1), (1, 0, 1)))
+ROW = (("bend", BEND), ("straight", (0, 1, 0, 1, 0, 0)))
+STEP, OTHER = (-1, (BEND,), (), (0, 1, 0, 1, 0, 0)), (1, ((0, 0, 0, 2),), (), SAME)
+INTERFACE = {
+    "fields": (
+        ("is_field", {"thing": 3}), ("characteristic", {"q": 3}), ("is_number", {"q": 3, "thing": 2}),
+        ("plus", {"q": 3, "a": 1, "b": 2}), ("minus", {"q": 3, "a": 1, "b": 2}), ("times", {"q": 3, "a": 2, "b": 2}),
+        ("opposite", {"q": 3, "a": 1}), ("inverse", {"q": 3, "a": 2}), ("power", {"q": 3, "a": 2, "exponent": 5}),
+        ("order_of_number", {"q": 3, "a": 2}),
+    ),
+    "oneletter": (
+        ("is_one_letter", {"q": 3, "thing": (0, 1)}), ("one_plus", {"q": 3, "f": (1, 2), "g": (2, 2)}),
+        ("one_times", {"q": 3, "f": (1, 2), "g": (2, 2)}), ("one_value", {"q": 3, "f": (1, 2), "number": 2}),
+        ("one_put", {"q": 3, "f": (1, 2), "g": (2, 0, 1)}),
+    ),
+    "polys": (
+        ("is_poly", {"q": 3, "thing": F}), ("poly_plus", {"q": 3, "F": F, "G": G}),
+        ("poly_minus", {"q": 3, "F": F, "G": G}), ("poly_times", {"q": 3, "F": F, "G": G}), ("degree", {"F": F}),
+        ("highest", {"F": F}), ("value", {"q": 3, "F": F, "x": 1, "y": 2}), ("slope", {"q": 3, "F": F, "letter": "x"}),
+        ("put", {"q": 3, "F": F, "pair": PAIR}),
+    ),
+    "pairs": (
+        ("is_pair", {"q": 3, "thing": PAIR}), ("pair_then", {"q": 3, "one": PAIR, "other": (F, G)}),
+        ("pair_degree", {"pair": PAIR}), ("determinant", {"q": 3, "pair": PAIR}),
+        ("point_by_pair", {"q": 3, "pair": PAIR, "point": (1, 2)}), ("is_straight", {"q": 3, "thing": SAME}),
+        ("is_bend", {"q": 3, "thing": BEND}), ("is_row", {"q": 3, "thing": ROW}), ("pair_by_row", {"q": 3, "row": ROW}),
+        ("point_by_row", {"q": 3, "row": ROW, "point": (1, 2)}),
+    ),
+    "peeling": (
+        ("lowered_by", {"q": 3, "pair": PAIR}), ("judge_pair", {"q": 3, "pair": PAIR}),
+        ("pair_holds", {"q": 3, "pair": PAIR, "thing": ("step", STEP)}), ("is_undoable", {"q": 3, "thing": PAIR}),
+        ("undoing_pair", {"q": 3, "pair": PAIR}),
+    ),
+    "steps": (
+        ("is_step", {"q": 3, "thing": STEP}), ("step_of_row", {"q": 3, "row": ROW}), ("nothing", {}),
+        ("row_of", {"q": 3, "step": STEP}), ("product", {"q": 3, "one": STEP, "other": OTHER}),
+        ("undoing", {"q": 3, "step": STEP}), ("repeat", {"q": 3, "step": STEP, "n": -3}),
+        ("point_after", {"q": 3, "step": STEP, "point": (1, 2)}), ("degrees_of", {"q": 3, "step": STEP}),
+        ("determinant_of", {"q": 3, "step": STEP}), ("pair_of", {"q": 3, "step": STEP}),
+        ("parting", {"q": 3, "one": STEP, "other": OTHER}),
+    ),
+}
+
+
+def listed():
+    """Each listed function with its module's name and the arguments to try."""
+    for module, functions in INTERFACE.items():
+        made = importlib.import_module("bentplane." + module)
+        for name, arguments in functions:
+            yield module, getattr(made, name), arguments
+
+
+class Interface(unittest.TestCase):
+    def test_names_and_parameters(self):
+        for module, function, arguments in listed():
+            self.assertEqual(function.__module__, "bentplane." + module)
+            self.assertEqual(list(inspect.signature(function).parameters), list(arguments))
+            for parameter in inspect.signature(function).parameters.values():
+                self.assertEqual([parameter.kind, parameter.default], [parameter.POSITIONAL_OR_KEYWORD, parameter.empty])
+
+    def test_by_position_and_by_name(self):
+        for _, function, arguments in listed():
+            before = deepcopy(arguments)
+            found = function(*arguments.values())
+            self.assertEqual(found, function(**arguments))
+            self.assertEqual(found, function(**dict(reversed(list(arguments.items())))))
+            self.assertEqual(arguments, before)
+            self.assertIs(type(found), type(function(**arguments)))
+
+    def test_any_value_stays_as_it_is(self):
+        things = samples.odd_values() + [[F, G], [("bend", [0, 0, 1])], [-1, [BEND], [], list(SAME)]]
+        for _, function, arguments in listed():
+            if "thing" not in arguments:
+                continue
+            for thing in things:
+                before = deepcopy(thing)
+                found = function(**{**arguments, "thing": thing})
+                self.assertIn(found, (True, False))
+                self.assertIs(type(found), bool)
+                self.assertEqual(repr(thing), repr(before))
+
+    def test_results_are_of_told_kinds(self):
+        for _, function, arguments in listed():
+            self.check_kinds(function(**arguments))
+
+    def check_kinds(self, found):
+        if type(found) is tuple:
+            for part in found:
+                self.check_kinds(part)
+        else:
+            self.assertIn(type(found), (int, str, bool, type(None)))
+
+
+if __name__ == "__main__":
+    unittest.main()
