@@ -114,8 +114,9 @@ def parting(q, one, other):
     look_at_steps(q, [one, other])
     if one == other:
         return None
-    pairs = zip(("F", "G"), pair_by_step(q, one), pair_by_step(q, other))
-    return min([(letter, *exponents) for letter, F, G in pairs for exponents in parted_exponents(F, G)])
+    first = pair_by_step(q, one)
+    second = pair_by_step(q, other)
+    return min([(letter, *at) for letter, F, G in zip(("F", "G"), first, second) for at in parted_exponents(F, G)])
 
 
 def parted_exponents(F, G):

@@ -304,6 +304,14 @@ class Undoable(unittest.TestCase):
             for pair in great:
                 self.assertIs(peeling.is_undoable(q, pair), False)
 
+    def test_degree_36_itself(self):
+        for q in FIELDS:
+            row = (("bend", (0,) * 6 + (1,)), SWAP, ("bend", (0, 0, 1, 0, 0, 0, 1)))
+            pair = pairs.pair_by_row(q, row)
+            self.assertEqual(pairs.pair_degree(pair), 36)
+            self.assertIs(peeling.is_undoable(q, pair), True)
+            self.assertIs(peeling.is_undoable(q, (pair[0], ((0, 36, 1), (1, 0, 1)))), False)
+
     def test_undoable_pair_of_degree_48(self):
         for q in (2, 9):
             row = (("bend", (0,) * 6 + (1,)), SWAP, ("bend", (0, 0, 0, 0, 1)), SWAP, ("bend", (0, 0, 1)))
