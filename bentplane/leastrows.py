@@ -2,9 +2,10 @@
 
 from bentplane.fields import inverse, minus, opposite, plus, times
 from bentplane.oneletter import one_plus, one_put, one_scaled
-from bentplane.straight import SAME, straight_then, straight_undone, turn_by
+from bentplane.straight import straight_then, straight_undone, turn_by
 
 NO_TURN = -1
+NOTHING = (-1, (), (), (1, 0, 0, 0, 1, 0))
 
 
 class LeastRow:
@@ -83,7 +84,7 @@ def step_and_row(q, step, row):
 
 def step_by_row(q, row):
     """The step that a row of pieces makes."""
-    return step_and_row(q, (NO_TURN, (), (), SAME), row)
+    return step_and_row(q, NOTHING, row)
 
 
 def row_by_step(step):
@@ -109,3 +110,27 @@ def piece_undone(q, piece):
 def row_undone(q, row):
     """The row of pieces that undoes a row of pieces."""
     return tuple([piece_undone(q, piece) for piece in reversed(row)])
+
+
+def step_then(q, one, other):
+    """The step that does the first step and then the second one."""
+    return step_and_row(q, one, row_by_step(other))
+
+
+def step_undone(q, step):
+    """The step that undoes a step."""
+    return step_by_row(q, row_undone(q, row_by_step(step)))
+
+
+def step_repeated(q, step, n):
+    """The product of a step with itself, n times, n being from 0 on."""
+    row = row_by_step(step)
+    found = NOTHING
+    for _ in range(n):
+        found = step_and_row(q, found, row)
+    return found
+
+
+def straight_step(straight):
+    """A straight map as a step."""
+    return (NO_TURN, (), (), straight)

@@ -2,7 +2,7 @@
 
 from bentplane.errors import BadPair
 from bentplane.fields import inverse, opposite, times
-from bentplane.leastrows import row_by_step, row_undone, step_by_row
+from bentplane.leastrows import row_by_step, row_undone, step_by_row, step_undone
 from bentplane.pairs import is_pair, is_row, is_straight, pair_and_piece, pair_and_row, pair_degree
 from bentplane.polys import as_dict, degree, highest, poly_power, poly_scaled
 from bentplane.steps import bend_degrees, is_step, pair_by_step
@@ -148,4 +148,4 @@ def undoing_pair(q, pair):
     word, shown = judge_pair(q, pair)
     if word == "stuck":
         return None
-    return pair_by_step(q, step_by_row(q, row_undone(q, row_by_step(shown))))
+    return pair_by_step(q, step_undone(q, shown))

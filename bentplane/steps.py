@@ -2,11 +2,13 @@
 
 from bentplane.errors import BadStep
 from bentplane.fields import is_integer, opposite
-from bentplane.leastrows import NO_TURN, row_by_step, row_undone, step_and_row, step_by_row
+from bentplane.leastrows import (
+    NO_TURN, NOTHING, row_by_step, step_by_row, step_repeated, step_then, step_undone,
+)
 from bentplane.oneletter import are_numbers
 from bentplane.pairs import NOTHING_PAIR, is_bend, is_straight, look_at_row, pair_and_row, point_and_row
 from bentplane.polys import as_dict
-from bentplane.straight import SAME, straight_determinant
+from bentplane.straight import straight_determinant
 
 
 def is_step(q, thing):
@@ -38,7 +40,7 @@ def step_of_row(q, row):
 
 def nothing():
     """The step nothing."""
-    return (NO_TURN, (), (), SAME)
+    return NOTHING
 
 
 def row_of(q, step):
@@ -50,25 +52,20 @@ def row_of(q, step):
 def product(q, one, other):
     """The step that does the first step and then the second one."""
     look_at_steps(q, [one, other])
-    return step_and_row(q, one, row_by_step(other))
+    return step_then(q, one, other)
 
 
 def undoing(q, step):
     """The step that undoes a step."""
     look_at_steps(q, [step])
-    return step_by_row(q, row_undone(q, row_by_step(step)))
+    return step_undone(q, step)
 
 
 def repeat(q, step, n):
     """The n-th repeat of a step; its undoing is repeated if n is below 0."""
     look_at_steps(q, [step])
-    row = row_by_step(step)
-    if n < 0:
-        row = row_undone(q, row)
-    found = nothing()
-    for _ in range(abs(n)):
-        found = step_and_row(q, found, row)
-    return found
+    repeated = step if n >= 0 else step_undone(q, step)
+    return step_repeated(q, repeated, abs(n))
 
 
 def point_after(q, step, point):

@@ -156,3 +156,40 @@ def poly(q, draw, degree, fill=0.6):
 
 def cut_point(q, draw):
     return tuple(tuple(draw.randrange(q) for _ in range(reference.SIZE)) for _ in range(2))
+
+
+# Straight maps of all sorts, short steps, places
+
+
+def map_of_both(q, draw):
+    return (draw.randrange(1, q), draw.randrange(q), draw.randrange(q), 0, draw.randrange(1, q), draw.randrange(q))
+
+
+def core(q, draw, degrees):
+    """A short step that grows, with these degrees, one or more."""
+    _, bends, turns, last = step(q, draw, degrees)
+    while last[3] == 0:
+        last = straight(q, draw)
+    return (-1, bends, turns, last)
+
+
+def bent_step(q, draw, degree=None):
+    """A short step with one bend that rests."""
+    return (-1, (bend(q, draw, degree),), (), map_of_both(q, draw))
+
+
+def straight_step(q, draw):
+    return (-1, (), (), straight_of_any_sort(q, draw))
+
+
+def place(q, draw, sort, many):
+    """A place of a sort with so many bends."""
+    if sort == "straight" and many == 0:
+        return ("straight", -1, (), ())
+    bends = tuple(bend(q, draw) for _ in range(many))
+    turns = tuple(draw.randrange(q) for _ in range(many if sort == "bent" else many - 1))
+    return (sort, draw.randrange(-1, q), bends, turns)
+
+
+def places(q, draw, counts):
+    return [place(q, draw, sort, many) for many in counts for sort in ("straight", "bent")]

@@ -6,6 +6,7 @@ import unittest
 from copy import deepcopy
 
 from tests import samples
+from tests.reference import FIELDS
 
 # What the interface lists, module by module: names, parameters, and arguments to call them with over 3.
 BEND, SAME = (0, 0, 1), (1, 0, 0, 0, 1, 0)
@@ -13,6 +14,8 @@ F, G = ((0, 1, 1), (2, 0, 2)), ((0, 0, 1), (1, 0, 2))
 PAIR = (((0, 1, 1),), ((0, 2, 1), (1, 0, 1)))
 ROW = (("bend", BEND), ("straight", (0, 1, 0, 1, 0, 0)))
 STEP, OTHER = (-1, (BEND,), (), (0, 1, 0, 1, 0, 0)), (1, ((0, 0, 0, 2),), (), SAME)
+LONG, BENT = (-1, (BEND, (0, 0, 0, 1)), (1,), (0, 1, 0, 1, 0, 0)), (-1, (BEND,), (), (1, 0, 1, 0, 1, 0))
+PLACE, BESIDE = ("bent", 0, (BEND, BEND), (1, 0)), ("straight", 0, (BEND, BEND), (1,))
 INTERFACE = {
     "fields": (
         ("is_field", {"thing": 3}), ("characteristic", {"q": 3}), ("is_number", {"q": 3, "thing": 2}),
@@ -51,7 +54,49 @@ INTERFACE = {
         ("determinant_of", {"q": 3, "step": STEP}), ("pair_of", {"q": 3, "step": STEP}),
         ("parting", {"q": 3, "one": STEP, "other": OTHER}),
     ),
+    "counting": (
+        ("many_straight", {"q": 3}), ("many_steps", {"q": 3, "degrees": (2, 5)}),
+        ("many_with", {"q": 3, "degrees": (2, 5), "determinant": 1}), ("many_of_degree", {"q": 3, "degree": 12}),
+        ("step_number", {"q": 3, "step": LONG}), ("step_at", {"q": 3, "degrees": (2, 3), "number": 77}),
+    ),
+    "kinds": (
+        ("seen", {"q": 3, "step": LONG, "change": BENT}), ("is_short", {"q": 3, "step": LONG}),
+        ("short_form", {"q": 3, "step": (1, *LONG[1:])}), ("walk", {"q": 3, "step": LONG}),
+        ("is_resting", {"q": 3, "step": LONG}), ("judge_kind", {"q": 3, "step": LONG}),
+        ("kind_holds", {"q": 3, "step": BENT, "thing": ("rests", 6)}), ("order", {"q": 3, "step": BENT}),
+    ),
+    "repeats": (
+        ("growth", {"q": 3, "step": LONG}), ("repeat_degree", {"q": 3, "step": LONG, "n": -(10 ** 20)}),
+        ("far_repeat", {"q": 3, "step": BENT, "n": 10 ** 20}),
+    ),
+    "places": (
+        ("is_place", {"q": 3, "thing": PLACE}), ("step_of_place", {"q": 3, "place": PLACE}),
+        ("place_of", {"q": 3, "step": LONG, "sort": "bent"}), ("ahead", {"q": 3, "place": PLACE}),
+        ("depth", {"q": 3, "place": PLACE}), ("are_beside", {"q": 3, "one": PLACE, "other": BESIDE}),
+        ("distance", {"q": 3, "one": PLACE, "other": ("bent", -1, (), ())}),
+        ("way_between", {"q": 3, "one": PLACE, "other": ("bent", -1, (), ())}),
+        ("many_behind", {"q": 3, "place": PLACE, "degree": 5}), ("behind", {"q": 3, "place": PLACE, "degree": 3}),
+    ),
+    "tree": (
+        ("moved", {"q": 3, "step": LONG, "place": PLACE}), ("is_kept", {"q": 3, "step": LONG, "place": PLACE}),
+        ("is_on_line", {"q": 3, "step": LONG, "place": PLACE}), ("nearest", {"q": 3, "step": LONG, "place": PLACE}),
+        ("line_stretch", {"q": 3, "step": LONG}),
+    ),
+    "letters": (
+        ("next_round", {"q": 3, "step": LONG}), ("rounds", {"q": 3, "step": LONG}), ("maps_of_both", {"q": 3}),
+        ("keeping_maps", {"q": 3, "step": LONG}), ("least_form", {"q": 3, "step": LONG}),
+        ("judge_kin", {"q": 3, "one": LONG, "other": STEP}),
+        ("kin_holds", {"q": 3, "one": LONG, "other": LONG, "thing": ("kin", (-1, (), (), SAME))}),
+        ("are_kin", {"q": 3, "one": LONG, "other": STEP}),
+    ),
+    "commuters": (
+        ("resting_commuters", {"q": 3, "step": LONG}), ("least_commuter", {"q": 3, "step": LONG}),
+        ("roots_of", {"q": 3, "step": LONG, "n": 2}),
+    ),
 }
+# These are asked over small fields alone; and arguments with the number 2 are not right over 2.
+SMALL_FIELDS = ("least_form", "judge_kin", "kin_holds", "are_kin", "resting_commuters", "least_commuter", "roots_of")
+WITHOUT_TWOS = ("counting", "kinds", "repeats", "places", "tree", "letters", "commuters")
 
 
 def listed():
@@ -90,6 +135,17 @@ class Interface(unittest.TestCase):
                 self.assertIn(found, (True, False))
                 self.assertIs(type(found), bool)
                 self.assertEqual(repr(thing), repr(before))
+
+    def test_one_question_over_several_fields(self):
+        """Asked over one field, then over the others, and then over all of them again, from the last one on."""
+        for module, function, arguments in listed():
+            if "q" not in arguments:
+                continue
+            fields = [q for q in FIELDS if q > 2 or module in WITHOUT_TWOS]
+            fields = [q for q in fields if q <= 5 or function.__name__ not in SMALL_FIELDS]
+            found = {q: function(**{**arguments, "q": q}) for q in fields}
+            for q in reversed(fields):
+                self.assertEqual(function(**{**arguments, "q": q}), found[q])
 
     def test_results_are_of_told_kinds(self):
         for _, function, arguments in listed():
