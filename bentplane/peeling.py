@@ -5,7 +5,7 @@ from bentplane.fields import inverse, opposite, times
 from bentplane.leastrows import row_by_step, row_undone, step_by_row, step_undone
 from bentplane.pairs import is_pair, is_row, is_straight, pair_and_piece, pair_and_row, pair_degree
 from bentplane.polys import as_dict, degree, highest, poly_power, poly_scaled
-from bentplane.steps import bend_degrees, is_step, pair_by_step
+from bentplane.steps import is_step, pair_by_step, step_degree
 from bentplane.straight import SWAP
 
 # Above this degree is_undoable looks no further.
@@ -95,11 +95,8 @@ def judge_pair(q, pair):
 
 def makes_pair(q, step, pair):
     """Whether a step makes a pair."""
-    found = 1
-    for number in bend_degrees(step):
-        found *= number
     # Only if the degrees agree the pair of the step is worked out: it may be too great otherwise.
-    return found == pair_degree(pair) and pair_by_step(q, step) == pair
+    return step_degree(step) == pair_degree(pair) and pair_by_step(q, step) == pair
 
 
 def is_raised(pair, piece):

@@ -79,6 +79,14 @@ def bend_degrees(step):
     return tuple([len(bend) - 1 for bend in step[1]])
 
 
+def step_degree(step):
+    """The degree of the pair that a step makes."""
+    found = 1
+    for number in bend_degrees(step):
+        found *= number
+    return found
+
+
 def degrees_of(q, step):
     """The degrees of a step."""
     look_at_steps(q, [step])

@@ -3,7 +3,7 @@
 import random
 from copy import deepcopy
 
-from tests import reference
+from tests import plain, reference
 
 ODD_VALUES = (
     None, True, False, 0, 1, 2, 3, -1, -2, 5, 16, 17, 10 ** 39, -(10 ** 39), "", "F", "0", "bend", "straight", "step",
@@ -193,3 +193,40 @@ def place(q, draw, sort, many):
 
 def places(q, draw, counts):
     return [place(q, draw, sort, many) for many in counts for sort in ("straight", "bent")]
+
+
+# Families
+
+
+def steps_of_sort(q, draw, sort, many):
+    """So many straight maps, or bent maps, as steps."""
+    if sort == "straight":
+        return tuple(straight_step(q, draw) for _ in range(many))
+    found = []
+    for _ in range(many):
+        way = draw.randrange(4)
+        last = (1, 0, 0, 0, 1, 0) if way == 1 else map_of_both(q, draw)
+        found.append((-1, () if way == 0 else (bend(q, draw),), (), last))
+    return tuple(found)
+
+
+def finite_family(q, draw, many, depth):
+    """(family, sort, change): so many steps that are maps of one sort behind a change with so many bends."""
+    sort = draw.choice(("straight", "bent"))
+    change = step(q, draw, some_degrees(draw, depth))
+    return (tuple(plain.seen_back(q, one, change) for one in steps_of_sort(q, draw, sort, many)), sort, change)
+
+
+def resting_step(q, draw, depth):
+    """A step that rests, behind a change with so many bends."""
+    return finite_family(q, draw, 1, depth)[0][0]
+
+
+def word(draw, letters, many):
+    """A word of so many letters without letters beside their undoings."""
+    found = []
+    while len(found) < many:
+        letter = draw.choice((-1, 1)) * draw.randrange(1, letters + 1)
+        if not found or found[-1] != -letter:
+            found.append(letter)
+    return tuple(found)

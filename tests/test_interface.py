@@ -16,6 +16,9 @@ ROW = (("bend", BEND), ("straight", (0, 1, 0, 1, 0, 0)))
 STEP, OTHER = (-1, (BEND,), (), (0, 1, 0, 1, 0, 0)), (1, ((0, 0, 0, 2),), (), SAME)
 LONG, BENT = (-1, (BEND, (0, 0, 0, 1)), (1,), (0, 1, 0, 1, 0, 0)), (-1, (BEND,), (), (1, 0, 1, 0, 1, 0))
 PLACE, BESIDE = ("bent", 0, (BEND, BEND), (1, 0)), ("straight", 0, (BEND, BEND), (1,))
+FAMILY = (BENT, (-1, (), (), (1, 0, 1, 0, 1, 0)))
+FREE = (0, ((0, 0, 0, 0, 1), BEND), (1,), (0, 1, 0, 1, 0, 0))
+EXCHANGE = (1, 2, 0, 4, 3, 6, 5, 7, 8)
 INTERFACE = {
     "fields": (
         ("is_field", {"thing": 3}), ("characteristic", {"q": 3}), ("is_number", {"q": 3, "thing": 2}),
@@ -93,10 +96,50 @@ INTERFACE = {
         ("resting_commuters", {"q": 3, "step": LONG}), ("least_commuter", {"q": 3, "step": LONG}),
         ("roots_of", {"q": 3, "step": LONG, "n": 2}),
     ),
+    "families": (
+        ("is_family", {"q": 3, "thing": FAMILY}), ("word_step", {"q": 3, "family": FAMILY, "word": (1, -2, 1)}),
+        ("common_place", {"q": 3, "family": FAMILY}), ("is_finite", {"q": 3, "family": FAMILY}),
+        ("judge_finite", {"q": 3, "family": (STEP, LONG)}),
+        ("finite_holds", {"q": 3, "family": FAMILY, "thing": ("finite", (-1, (), (), SAME), "bent")}),
+        ("is_within", {"q": 3, "one": FAMILY[:1], "other": FAMILY}),
+    ),
+    "sizes": (
+        ("many_deeds", {"q": 3, "family": FAMILY}), ("is_deed", {"q": 3, "family": FAMILY, "step": FAMILY[1]}),
+        ("deeds", {"q": 3, "family": FAMILY}), ("word_for", {"q": 3, "family": FAMILY, "step": FAMILY[1]}),
+        ("by_length", {"q": 3, "family": FAMILY}), ("middle", {"q": 3, "family": FAMILY}),
+        ("orders_of", {"q": 3, "family": FAMILY}),
+    ),
+    "free": (
+        ("traded", {"q": 3, "one": LONG, "other": BENT, "trade": "2-1"}), ("is_spread", {"q": 3, "one": LONG, "other": FREE}),
+        ("judge_free", {"q": 3, "one": LONG, "other": BENT}),
+        ("free_holds", {"q": 3, "one": LONG, "other": BENT, "thing": ("tied", (2,), 6)}),
+        ("are_free", {"q": 3, "one": LONG, "other": FREE}),
+        ("free_word", {"q": 3, "one": LONG, "other": FREE, "step": FREE}), ("unlike", {"q": 3, "family": (LONG, BENT), "n": 2}),
+    ),
+    "exchanges": (
+        ("is_exchange", {"q": 3, "thing": EXCHANGE}), ("exchange_of", {"q": 3, "step": LONG}),
+        ("is_even", {"q": 3, "exchange": EXCHANGE}), ("can_come", {"q": 3, "exchange": EXCHANGE}),
+        ("row_for", {"q": 3, "exchange": EXCHANGE}), ("round_lengths", {"q": 3, "exchange": EXCHANGE}),
+        ("pair_between", {"q": 3, "exchange": EXCHANGE}), ("point_order", {"q": 3, "step": LONG}),
+    ),
 }
 # These are asked over small fields alone; and arguments with the number 2 are not right over 2.
 SMALL_FIELDS = ("least_form", "judge_kin", "kin_holds", "are_kin", "resting_commuters", "least_commuter", "roots_of")
-WITHOUT_TWOS = ("counting", "kinds", "repeats", "places", "tree", "letters", "commuters")
+WITHOUT_TWOS = (
+    "counting", "kinds", "repeats", "places", "tree", "letters", "commuters", "families", "sizes", "free", "exchanges",
+)
+# Exchanges belong to one field.
+IN_THE_OTHER_FIELDS = {
+    "is_exchange": lambda q: {"thing": turned(q)}, "is_even": lambda q: {"exchange": turned(q)},
+    "can_come": lambda q: {"exchange": turned(q)}, "round_lengths": lambda q: {"exchange": turned(q)},
+    "row_for": lambda q: {"exchange": turned(q)} if q < 8 else None,
+    "pair_between": lambda q: {"exchange": turned(q)} if q < 6 else None,
+}
+
+
+def turned(q):
+    """An exchange that moves three points, or all four over 2."""
+    return (1, 2, 3, 0) if q == 2 else (1, 2, 0, *range(3, q * q))
 
 
 def listed():
@@ -143,9 +186,11 @@ class Interface(unittest.TestCase):
                 continue
             fields = [q for q in FIELDS if q > 2 or module in WITHOUT_TWOS]
             fields = [q for q in fields if q <= 5 or function.__name__ not in SMALL_FIELDS]
-            found = {q: function(**{**arguments, "q": q}) for q in fields}
+            other = IN_THE_OTHER_FIELDS.get(function.__name__, lambda q: {})
+            fields = [q for q in fields if other(q) is not None]
+            found = {q: function(**{**arguments, "q": q, **other(q)}) for q in fields}
             for q in reversed(fields):
-                self.assertEqual(function(**{**arguments, "q": q}), found[q])
+                self.assertEqual(function(**{**arguments, "q": q, **other(q)}), found[q])
 
     def test_results_are_of_told_kinds(self):
         for _, function, arguments in listed():
