@@ -5,6 +5,8 @@ import inspect
 import unittest
 from copy import deepcopy
 
+from bentplane.errors import BadStep
+from bentplane.houses import House
 from tests import samples
 from tests.reference import FIELDS
 
@@ -122,19 +124,37 @@ INTERFACE = {
         ("row_for", {"q": 3, "exchange": EXCHANGE}), ("round_lengths", {"q": 3, "exchange": EXCHANGE}),
         ("pair_between", {"q": 3, "exchange": EXCHANGE}), ("point_order", {"q": 3, "step": LONG}),
     ),
+    "larger": (
+        ("is_above", {"q": 3, "r": 9}), ("number_lifted", {"q": 3, "r": 9, "number": 2}),
+        ("step_lifted", {"q": 3, "r": 9, "step": LONG}), ("still_points", {"q": 3, "step": LONG}),
+        ("point_after_repeat", {"q": 3, "step": LONG, "point": (1, 0), "n": -(10 ** 29)}),
+        ("many_still", {"q": 3, "step": LONG, "n": 10 ** 29}), ("parted_point", {"q": 3, "one": LONG, "other": BENT}),
+    ),
+    "kept": (
+        ("kept_base", {"q": 3, "family": FAMILY, "n": 3}), ("has_kept", {"q": 3, "family": FAMILY, "thing": ((0, 3, 1),)}),
+        ("round_sum", {"q": 3, "step": BENT, "P": ((0, 1, 1), (1, 0, 1))}),
+        ("round_product", {"q": 3, "step": BENT, "P": ((0, 1, 1), (1, 0, 1))}),
+    ),
+    "texts": (
+        ("step_text", {"q": 3, "step": LONG}), ("read_step", {"q": 3, "text": "start 1 bend 0 0 1 last 1 0 0 0 1 0"}),
+    ),
 }
 # These are asked over small fields alone; and arguments with the number 2 are not right over 2.
 SMALL_FIELDS = ("least_form", "judge_kin", "kin_holds", "are_kin", "resting_commuters", "least_commuter", "roots_of")
 WITHOUT_TWOS = (
-    "counting", "kinds", "repeats", "places", "tree", "letters", "commuters", "families", "sizes", "free", "exchanges",
+    "counting", "kinds", "repeats", "places", "tree", "letters", "commuters", "families", "sizes", "free", "exchanges", "larger",
+    "kept", "texts",
 )
-# Exchanges belong to one field.
+# Exchanges belong to one field, and numbers are lifted from few.
 IN_THE_OTHER_FIELDS = {
     "is_exchange": lambda q: {"thing": turned(q)}, "is_even": lambda q: {"exchange": turned(q)},
     "can_come": lambda q: {"exchange": turned(q)}, "round_lengths": lambda q: {"exchange": turned(q)},
     "row_for": lambda q: {"exchange": turned(q)} if q < 8 else None,
     "pair_between": lambda q: {"exchange": turned(q)} if q < 6 else None,
+    "number_lifted": lambda q: {"r": ABOVE[q], "number": q - 1} if q in ABOVE else None,
+    "step_lifted": lambda q: {"r": ABOVE[q]} if q in ABOVE else None,
 }
+ABOVE = {2: 8, 3: 9, 4: 16}
 
 
 def turned(q):
@@ -178,6 +198,25 @@ class Interface(unittest.TestCase):
                 self.assertIn(found, (True, False))
                 self.assertIs(type(found), bool)
                 self.assertEqual(repr(thing), repr(before))
+
+    def test_houses_in_any_place(self):
+        """Houses are among any values, alone and within other ones."""
+        house = House(3)
+        house.put("a", STEP)
+        things = [house, (house,), [house], {"a": house}, ("step", house), ("kin", house), ("free", house), ("tied", house, 1)]
+        things += [("free", (house,)), ("tied", (house,), 1), ("tied", (1,), house), ("finite", house, "bent"), ("endless", house)]
+        things += [("endless", (house,)), ("finite", STEP, house), (house, (BEND,), (), SAME), (-1, house, (), SAME), (house,) * 9]
+        for _, function, arguments in listed():
+            if "thing" in arguments:
+                for thing in things:
+                    self.assertIs(function(**{**arguments, "thing": thing}), False)
+            for name in ("step", "one", "other"):
+                if arguments.get(name) in (STEP, LONG, BENT, OTHER, FREE):
+                    for thing in things:
+                        with self.assertRaises(BadStep) as caught:
+                            function(**{**arguments, name: thing})
+                        self.assertIs(caught.exception.thing, thing)
+        self.assertEqual(house.names(), (("a", STEP),))
 
     def test_one_question_over_several_fields(self):
         """Asked over one field, then over the others, and then over all of them again, from the last one on."""
